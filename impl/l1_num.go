@@ -1,0 +1,578 @@
+package impl
+
+import (
+	"cmp"
+	"math/bits"
+	"strconv"
+	"strings"
+)
+
+// MaxDigits is the greatest number of digits of one run that RatParse reads.
+const MaxDigits = 400
+
+// The codes of RatParse.
+const (
+	numberRead        = 0
+	numberIllFormed   = 1
+	numberTooLong     = 2
+	numberZeroDivisor = 3
+)
+
+const limbBits = 32
+const limbMax = 1<<limbBits - 1
+
+// Decimal texts are read and written in chunks: the greatest power of ten that fits one limb.
+const chunkDigits = 9
+const chunkBase = 1000000000
+
+// Rat is a rational number: Num/Den, negative when Neg is true.
+type Rat struct {
+	Neg bool
+	Num []uint32
+	Den []uint32
+}
+
+// nat is a natural at work: limbs, the least first. Between two calls of its methods it is plain.
+type nat []uint32
+
+// readOnly shares the memory of limbs: the methods that write in place are not for it.
+func readOnly(limbs []uint32) nat {
+	n := nat(limbs)
+	n.trim()
+	return n
+}
+
+// ownCopy may be worked on in place: nobody else holds its memory.
+func ownCopy(limbs []uint32) nat {
+	return append(nat(nil), readOnly(limbs)...)
+}
+
+func (n *nat) trim() {
+	size := len(*n)
+	for size > 0 && (*n)[size-1] == 0 {
+		size--
+	}
+	*n = (*n)[:size]
+}
+
+func (n *nat) isZero() bool {
+	return len(*n) == 0
+}
+
+func (n *nat) isOne() bool {
+	return len(*n) == 1 && (*n)[0] == 1
+}
+
+func (n *nat) compare(m nat) int {
+	if len(*n) != len(m) {
+		return cmp.Compare(len(*n), len(m))
+	}
+	for i := len(m) - 1; i >= 0; i-- {
+		if (*n)[i] != m[i] {
+			return cmp.Compare((*n)[i], m[i])
+		}
+	}
+	return 0
+}
+
+// add works in place.
+func (n *nat) add(m nat) {
+	for len(*n) < len(m) {
+		*n = append(*n, 0)
+	}
+	carry := uint64(0)
+	for i, limb := range *n {
+		sum := uint64(limb) + carry
+		if i < len(m) {
+			sum += uint64(m[i])
+		}
+		(*n)[i] = uint32(sum)
+		carry = sum >> limbBits
+	}
+	if carry != 0 {
+		*n = append(*n, uint32(carry))
+	}
+}
+
+// subtract works in place; m is at most n.
+func (n *nat) subtract(m nat) {
+	borrow := uint64(0)
+	for i, limb := range *n {
+		difference := uint64(limb) - borrow
+		if i < len(m) {
+			difference -= uint64(m[i])
+		}
+		(*n)[i] = uint32(difference)
+		// A difference below zero has wrapped round, so its top bit is set.
+		borrow = difference >> 63
+	}
+	n.trim()
+}
+
+// multiply puts n on new memory, so n may be readOnly.
+func (n *nat) multiply(m nat) {
+	product := make(nat, len(*n)+len(m))
+	for i, limb := range *n {
+		carry := uint64(0)
+		for j, other := range m {
+			// The greatest limbs and carry make exactly 2^64 - 1.
+			sum := uint64(limb)*uint64(other) + uint64(product[i+j]) + carry
+			product[i+j] = uint32(sum)
+			carry = sum >> limbBits
+		}
+		product[i+len(m)] = uint32(carry)
+	}
+	product.trim()
+	*n = product
+}
+
+// multiplyAdd works in place: n becomes n*factor + extra.
+func (n *nat) multiplyAdd(factor uint32, extra uint32) {
+	carry := uint64(extra)
+	for i, limb := range *n {
+		sum := uint64(limb)*uint64(factor) + carry
+		(*n)[i] = uint32(sum)
+		carry = sum >> limbBits
+	}
+	if carry != 0 {
+		*n = append(*n, uint32(carry))
+	}
+}
+
+// shiftLeft puts n on new memory, so n may be readOnly.
+func (n *nat) shiftLeft(count int) {
+	whole, part := count/limbBits, count%limbBits
+	shifted := make(nat, len(*n)+whole+1)
+	for i, limb := range *n {
+		wide := uint64(limb) << part
+		shifted[i+whole] |= uint32(wide)
+		shifted[i+whole+1] = uint32(wide >> limbBits)
+	}
+	shifted.trim()
+	*n = shifted
+}
+
+// shiftRight works in place.
+func (n *nat) shiftRight(count int) {
+	whole, part := count/limbBits, count%limbBits
+	kept := (*n)[min(whole, len(*n)):]
+	for i, limb := range kept {
+		wide := uint64(limb)
+		if i+1 < len(kept) {
+			wide |= uint64(kept[i+1]) << limbBits
+		}
+		(*n)[i] = uint32(wide >> part)
+	}
+	*n = (*n)[:len(kept)]
+	n.trim()
+}
+
+// divideByLimb works in place: n becomes the quotient, the remainder is the answer. d is not 0.
+func (n *nat) divideByLimb(d uint32) uint32 {
+	rest := uint64(0)
+	for i := len(*n) - 1; i >= 0; i-- {
+		part := rest<<limbBits | uint64((*n)[i])
+		(*n)[i] = uint32(part / uint64(d))
+		rest = part % uint64(d)
+	}
+	n.trim()
+	return uint32(rest)
+}
+
+// divideBy works in place: n becomes the remainder, the quotient is the answer. d is not zero.
+func (n *nat) divideBy(d nat) nat {
+	if n.compare(d) < 0 {
+		return nil
+	}
+	if len(d) == 1 {
+		quotient := *n
+		rest := quotient.divideByLimb(d[0])
+		*n = nat{rest}
+		n.trim()
+		return quotient
+	}
+	return n.divideByLong(d)
+}
+
+// divideByLong is divideBy for a d of two limbs or more that is at most n. With the top bit of d
+// set, a digit guessed from the leading limbs is at most one too great.
+func (n *nat) divideByLong(d nat) nat {
+	shift := bits.LeadingZeros32(d[len(d)-1])
+	d.shiftLeft(shift)
+	n.shiftLeft(shift)
+	*n = append(*n, 0)
+	quotient := make(nat, len(*n)-len(d))
+	for at := len(quotient) - 1; at >= 0; at-- {
+		digit := n.guessDigit(d, at)
+		if n.takeTimes(d, digit, at) {
+			digit--
+			n.giveBack(d, at)
+		}
+		quotient[at] = digit
+	}
+	quotient.trim()
+	n.shiftRight(shift)
+	return quotient
+}
+
+// guessDigit guesses the quotient digit at a place from three limbs of n and two of d.
+func (n *nat) guessDigit(d nat, at int) uint32 {
+	end := at + len(d)
+	first, second := uint64(d[len(d)-1]), uint64(d[len(d)-2])
+	lead := uint64((*n)[end])<<limbBits | uint64((*n)[end-1])
+	guess, rest := lead/first, lead%first
+	for guess > limbMax || guess*second > rest<<limbBits|uint64((*n)[end-2]) {
+		guess--
+		rest += first
+		// Beyond one limb the rest outweighs any product of two limbs, and shifting would lose it.
+		if rest > limbMax {
+			break
+		}
+	}
+	return uint32(guess)
+}
+
+// takeTimes takes digit*d from n at a place and says whether n had too little, and so wrapped round.
+func (n *nat) takeTimes(d nat, digit uint32, at int) bool {
+	owed := uint64(0)
+	for i, limb := range d {
+		product := uint64(digit)*uint64(limb) + owed
+		difference := uint64((*n)[at+i]) - product&limbMax
+		(*n)[at+i] = uint32(difference)
+		owed = product>>limbBits + difference>>63
+	}
+	difference := uint64((*n)[at+len(d)]) - owed
+	(*n)[at+len(d)] = uint32(difference)
+	return difference>>63 != 0
+}
+
+// giveBack adds d to n at a place. The last carry cancels the wrap that takeTimes told of.
+func (n *nat) giveBack(d nat, at int) {
+	carry := uint64(0)
+	for i, limb := range d {
+		sum := uint64((*n)[at+i]) + uint64(limb) + carry
+		(*n)[at+i] = uint32(sum)
+		carry = sum >> limbBits
+	}
+	(*n)[at+len(d)] += uint32(carry)
+}
+
+// twos is the number of times that 2 divides n; it is 0 for zero.
+func (n *nat) twos() int {
+	for i, limb := range *n {
+		if limb != 0 {
+			return i*limbBits + bits.TrailingZeros32(limb)
+		}
+	}
+	return 0
+}
+
+// isShort says whether n fits 64 bits.
+func (n *nat) isShort() bool {
+	return len(*n) <= 2
+}
+
+// short is the value of an n that fits 64 bits.
+func (n *nat) short() uint64 {
+	value := uint64(0)
+	for i, limb := range *n {
+		value |= uint64(limb) << (i * limbBits)
+	}
+	return value
+}
+
+func natOfShort(value uint64) nat {
+	n := nat{uint32(value), uint32(value >> limbBits)}
+	n.trim()
+	return n
+}
+
+// becomeGcd works in place: n becomes the greatest common divisor of n and m, and m is used up.
+func (n *nat) becomeGcd(m *nat) {
+	if n.compare(*m) < 0 {
+		*n, *m = *m, *n
+	}
+	if m.isZero() {
+		return
+	}
+	// Halving alone is slow when one number is far longer than the other.
+	n.divideBy(*m)
+	if n.isZero() {
+		*n = *m
+		return
+	}
+	shared := min(n.twos(), m.twos())
+	n.shiftRight(n.twos())
+	m.shiftRight(m.twos())
+	n.becomeOddGcd(m)
+	n.shiftLeft(shared)
+}
+
+// becomeOddGcd is becomeGcd for odd numbers: their difference is even, so it can be halved at once.
+func (n *nat) becomeOddGcd(m *nat) {
+	for !n.isShort() || !m.isShort() {
+		if n.compare(*m) > 0 {
+			*n, *m = *m, *n
+		}
+		m.subtract(*n)
+		if m.isZero() {
+			return
+		}
+		m.shiftRight(m.twos())
+	}
+	*n = natOfShort(shortGcd(n.short(), m.short()))
+}
+
+func shortGcd(a uint64, b uint64) uint64 {
+	for b != 0 {
+		a, b = b, a%b
+	}
+	return a
+}
+
+// gcdOf leaves both arguments as they are, so they may be readOnly.
+func gcdOf(a nat, b nat) nat {
+	if a.isOne() || b.isOne() {
+		return nat{1}
+	}
+	if a.isShort() && b.isShort() {
+		return natOfShort(shortGcd(a.short(), b.short()))
+	}
+	n, m := ownCopy(a), ownCopy(b)
+	n.becomeGcd(&m)
+	return n
+}
+
+// NatMul is the product of two naturals.
+func NatMul(a []uint32, b []uint32) []uint32 {
+	n := readOnly(a)
+	n.multiply(readOnly(b))
+	return n
+}
+
+// NatDivMod is the quotient and the remainder of a by b.
+func NatDivMod(a []uint32, b []uint32) ([]uint32, []uint32, bool) {
+	divisor := readOnly(b)
+	if divisor.isZero() {
+		return nil, nil, false
+	}
+	rest := ownCopy(a)
+	quotient := rest.divideBy(divisor)
+	return quotient, rest, true
+}
+
+// NatGcd is the greatest common divisor of two naturals.
+func NatGcd(a []uint32, b []uint32) []uint32 {
+	return gcdOf(readOnly(a), readOnly(b))
+}
+
+// fraction is a rational at work: not always in lowest terms, and zero may have a sign.
+type fraction struct {
+	neg    bool
+	top    nat
+	bottom nat
+}
+
+// fractionOf shares the limbs of r: what is worked out of it must be on new memory.
+func fractionOf(r Rat) fraction {
+	return fraction{neg: r.Neg, top: readOnly(r.Num), bottom: readOnly(r.Den)}
+}
+
+// normalise lays f down as the one valid Rat of its value. f has limbs of its own, and bottom is not zero.
+func (f *fraction) normalise() Rat {
+	common := gcdOf(f.top, f.bottom)
+	if !common.isOne() {
+		f.top = f.top.divideBy(common)
+		f.bottom = f.bottom.divideBy(common)
+	}
+	return Rat{Neg: f.neg && !f.top.isZero(), Num: f.top, Den: f.bottom}
+}
+
+func (f *fraction) add(g fraction) {
+	other := g.top
+	other.multiply(f.bottom)
+	f.top.multiply(g.bottom)
+	f.bottom.multiply(g.bottom)
+	f.addTop(g.neg, other)
+}
+
+// addTop adds to the top alone; both it and other have limbs of their own.
+func (f *fraction) addTop(neg bool, other nat) {
+	if f.neg == neg {
+		f.top.add(other)
+		return
+	}
+	if f.top.compare(other) < 0 {
+		f.top, other = other, f.top
+		f.neg = neg
+	}
+	f.top.subtract(other)
+}
+
+func (f *fraction) multiply(g fraction) {
+	f.neg = f.neg != g.neg
+	f.top.multiply(g.top)
+	f.bottom.multiply(g.bottom)
+}
+
+// divide needs a g that is not zero.
+func (f *fraction) divide(g fraction) {
+	f.multiply(fraction{neg: g.neg, top: g.bottom, bottom: g.top})
+}
+
+func (f *fraction) compare(g fraction) int {
+	if f.neg != g.neg {
+		if f.neg {
+			return -1
+		}
+		return 1
+	}
+	left, right := f.top, g.top
+	left.multiply(g.bottom)
+	right.multiply(f.bottom)
+	if f.neg {
+		return right.compare(left)
+	}
+	return left.compare(right)
+}
+
+func zeroRat() Rat {
+	return Rat{Den: []uint32{1}}
+}
+
+func isPlain(limbs []uint32) bool {
+	return len(limbs) == 0 || limbs[len(limbs)-1] != 0
+}
+
+// RatOk says whether r is a valid Rat.
+func RatOk(r Rat) bool {
+	if !isPlain(r.Num) || !isPlain(r.Den) || len(r.Den) == 0 {
+		return false
+	}
+	if r.Neg && len(r.Num) == 0 {
+		return false
+	}
+	common := gcdOf(r.Num, r.Den)
+	return common.isOne()
+}
+
+// RatAdd is the sum of two rationals.
+func RatAdd(a Rat, b Rat) Rat {
+	if !RatOk(a) || !RatOk(b) {
+		return zeroRat()
+	}
+	f := fractionOf(a)
+	f.add(fractionOf(b))
+	return f.normalise()
+}
+
+// RatMul is the product of two rationals.
+func RatMul(a Rat, b Rat) Rat {
+	if !RatOk(a) || !RatOk(b) {
+		return zeroRat()
+	}
+	f := fractionOf(a)
+	f.multiply(fractionOf(b))
+	return f.normalise()
+}
+
+// RatDiv is a divided by b.
+func RatDiv(a Rat, b Rat) (Rat, bool) {
+	if !RatOk(a) || !RatOk(b) || len(b.Num) == 0 {
+		return zeroRat(), false
+	}
+	f := fractionOf(a)
+	f.divide(fractionOf(b))
+	return f.normalise(), true
+}
+
+// RatCmp compares two rationals.
+func RatCmp(a Rat, b Rat) int {
+	if !RatOk(a) || !RatOk(b) {
+		return 2
+	}
+	f := fractionOf(a)
+	return f.compare(fractionOf(b))
+}
+
+func isDigits(s string) bool {
+	for i := range len(s) {
+		if s[i] < '0' || s[i] > '9' {
+			return false
+		}
+	}
+	return len(s) > 0
+}
+
+// natOfDigits reads a run of digits.
+func natOfDigits(digits string) nat {
+	n := nat{}
+	for len(digits) > 0 {
+		// The first chunk is the odd one, so that every later one is full.
+		size := (len(digits)-1)%chunkDigits + 1
+		chunk := uint32(0)
+		for i := range size {
+			chunk = chunk*10 + uint32(digits[i]-'0')
+		}
+		n.multiplyAdd(chunkBase, chunk)
+		digits = digits[size:]
+	}
+	return n
+}
+
+// appendDecimal uses n up.
+func (n *nat) appendDecimal(out []byte) []byte {
+	if n.isZero() {
+		return append(out, '0')
+	}
+	chunks := []uint32{}
+	for !n.isZero() {
+		chunks = append(chunks, n.divideByLimb(chunkBase))
+	}
+	last := len(chunks) - 1
+	out = strconv.AppendUint(out, uint64(chunks[last]), 10)
+	for i := last - 1; i >= 0; i-- {
+		text := strconv.FormatUint(uint64(chunks[i]), 10)
+		out = append(out, strings.Repeat("0", chunkDigits-len(text))...)
+		out = append(out, text...)
+	}
+	return out
+}
+
+// RatParse reads the text of a number.
+func RatParse(s string) (Rat, int) {
+	runs, neg := strings.CutPrefix(s, "-")
+	top, bottom, divided := strings.Cut(runs, "/")
+	if !divided {
+		bottom = "1"
+	}
+	if !isDigits(top) || !isDigits(bottom) {
+		return zeroRat(), numberIllFormed
+	}
+	if len(top) > MaxDigits || len(bottom) > MaxDigits {
+		return zeroRat(), numberTooLong
+	}
+	f := fraction{neg: neg, top: natOfDigits(top), bottom: natOfDigits(bottom)}
+	if f.bottom.isZero() {
+		return zeroRat(), numberZeroDivisor
+	}
+	return f.normalise(), numberRead
+}
+
+// RatText writes a number.
+func RatText(r Rat) string {
+	if !RatOk(r) {
+		return ""
+	}
+	out := []byte{}
+	if r.Neg {
+		out = append(out, '-')
+	}
+	top, bottom := ownCopy(r.Num), ownCopy(r.Den)
+	out = top.appendDecimal(out)
+	if !bottom.isOne() {
+		out = append(out, '/')
+		out = bottom.appendDecimal(out)
+	}
+	return string(out)
+}
