@@ -440,6 +440,51 @@ func zeroRat() Rat {
 	return Rat{Den: []uint32{1}}
 }
 
+func isZero(r Rat) bool {
+	return len(r.Num) == 0
+}
+
+// ownRats is a copy of a list that shares no limb with it.
+func ownRats(list []Rat) []Rat {
+	own := make([]Rat, len(list))
+	for i, r := range list {
+		own[i] = Rat{Neg: r.Neg, Num: ownCopy(r.Num), Den: ownCopy(r.Den)}
+	}
+	return own
+}
+
+// sumOf and its like below are for Rats that are known to be valid. Their answers are on new memory.
+func sumOf(a Rat, b Rat) Rat {
+	f := fractionOf(a)
+	f.add(fractionOf(b))
+	return f.normalise()
+}
+
+func differenceOf(a Rat, b Rat) Rat {
+	f, g := fractionOf(a), fractionOf(b)
+	g.neg = !g.neg
+	f.add(g)
+	return f.normalise()
+}
+
+func productOf(a Rat, b Rat) Rat {
+	f := fractionOf(a)
+	f.multiply(fractionOf(b))
+	return f.normalise()
+}
+
+// quotientOf needs a b that is not zero.
+func quotientOf(a Rat, b Rat) Rat {
+	f := fractionOf(a)
+	f.divide(fractionOf(b))
+	return f.normalise()
+}
+
+func orderOf(a Rat, b Rat) int {
+	f := fractionOf(a)
+	return f.compare(fractionOf(b))
+}
+
 func isPlain(limbs []uint32) bool {
 	return len(limbs) == 0 || limbs[len(limbs)-1] != 0
 }
@@ -461,9 +506,7 @@ func RatAdd(a Rat, b Rat) Rat {
 	if !RatOk(a) || !RatOk(b) {
 		return zeroRat()
 	}
-	f := fractionOf(a)
-	f.add(fractionOf(b))
-	return f.normalise()
+	return sumOf(a, b)
 }
 
 // RatMul is the product of two rationals.
@@ -471,19 +514,15 @@ func RatMul(a Rat, b Rat) Rat {
 	if !RatOk(a) || !RatOk(b) {
 		return zeroRat()
 	}
-	f := fractionOf(a)
-	f.multiply(fractionOf(b))
-	return f.normalise()
+	return productOf(a, b)
 }
 
 // RatDiv is a divided by b.
 func RatDiv(a Rat, b Rat) (Rat, bool) {
-	if !RatOk(a) || !RatOk(b) || len(b.Num) == 0 {
+	if !RatOk(a) || !RatOk(b) || isZero(b) {
 		return zeroRat(), false
 	}
-	f := fractionOf(a)
-	f.divide(fractionOf(b))
-	return f.normalise(), true
+	return quotientOf(a, b), true
 }
 
 // RatCmp compares two rationals.
@@ -491,8 +530,7 @@ func RatCmp(a Rat, b Rat) int {
 	if !RatOk(a) || !RatOk(b) {
 		return 2
 	}
-	f := fractionOf(a)
-	return f.compare(fractionOf(b))
+	return orderOf(a, b)
 }
 
 func isDigits(s string) bool {
