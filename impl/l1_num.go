@@ -440,8 +440,30 @@ func zeroRat() Rat {
 	return Rat{Den: []uint32{1}}
 }
 
+func oneRat() Rat {
+	return Rat{Num: []uint32{1}, Den: []uint32{1}}
+}
+
 func isZero(r Rat) bool {
 	return len(r.Num) == 0
+}
+
+func isPositive(r Rat) bool {
+	return !r.Neg && !isZero(r)
+}
+
+// oppositeOf shares the limbs of r.
+func oppositeOf(r Rat) Rat {
+	r.Neg = !r.Neg && !isZero(r)
+	return r
+}
+
+func zeroRats(count int) []Rat {
+	zeros := make([]Rat, count)
+	for i := range zeros {
+		zeros[i] = zeroRat()
+	}
+	return zeros
 }
 
 // ownRats is a copy of a list that shares no limb with it.
@@ -471,6 +493,15 @@ func productOf(a Rat, b Rat) Rat {
 	f := fractionOf(a)
 	f.multiply(fractionOf(b))
 	return f.normalise()
+}
+
+// plusProduct is total plus a times b, normalised only once.
+func plusProduct(total Rat, a Rat, b Rat) Rat {
+	product := fractionOf(a)
+	product.multiply(fractionOf(b))
+	sum := fractionOf(total)
+	sum.add(product)
+	return sum.normalise()
 }
 
 // quotientOf needs a b that is not zero.
