@@ -257,16 +257,6 @@ func (n *nat) giveBack(d nat, at int) {
 	(*n)[at+len(d)] += uint32(carry)
 }
 
-// twos is the number of times that 2 divides n; it is 0 for zero.
-func (n *nat) twos() int {
-	for i, limb := range *n {
-		if limb != 0 {
-			return i*limbBits + bits.TrailingZeros32(limb)
-		}
-	}
-	return 0
-}
-
 // isShort says whether n fits 64 bits.
 func (n *nat) isShort() bool {
 	return len(*n) <= 2
@@ -292,35 +282,98 @@ func (n *nat) becomeGcd(m *nat) {
 	if n.compare(*m) < 0 {
 		*n, *m = *m, *n
 	}
-	if m.isZero() {
-		return
+	for !m.isShort() {
+		n.leapTo(m, leapOf(*n, *m))
 	}
-	// Halving alone is slow when one number is far longer than the other.
-	n.divideBy(*m)
-	if n.isZero() {
-		*n = *m
-		return
+	if !n.isShort() && !m.isZero() {
+		n.leapTo(m, leap{})
 	}
-	shared := min(n.twos(), m.twos())
-	n.shiftRight(n.twos())
-	m.shiftRight(m.twos())
-	n.becomeOddGcd(m)
-	n.shiftLeft(shared)
+	if n.isShort() {
+		*n = natOfShort(shortGcd(n.short(), m.short()))
+	}
 }
 
-// becomeOddGcd is becomeGcd for odd numbers: their difference is even, so it can be halved at once.
-func (n *nat) becomeOddGcd(m *nat) {
-	for !n.isShort() || !m.isShort() {
-		if n.compare(*m) > 0 {
-			*n, *m = *m, *n
-		}
-		m.subtract(*n)
-		if m.isZero() {
-			return
-		}
-		m.shiftRight(m.twos())
+// leap stands for several steps of Euclid's algorithm at once: for the numbers n >= m, the difference of
+// n*ofN[0] and m*ofM[0] is the greater one behind the steps, that of n*ofN[1] and m*ofM[1] the smaller one.
+// After an odd number of steps it is m*ofM[0] and n*ofN[1] from which the other is taken away.
+type leap struct {
+	ofN [2]uint64
+	ofM [2]uint64
+	odd bool
+}
+
+// leapOf finds by their leading bits alone how many steps are the same for all n and m that begin with
+// these bits, by Collins' condition; no factor outgrows a limb. m is not short, and at most n.
+func leapOf(n nat, m nat) leap {
+	size := len(n)
+	shift := bits.LeadingZeros32(n[size-1])
+	great, small := n.leading(size, shift), m.leading(size, shift)
+	// This is one step before the beginning, so that n and m themselves come first.
+	l := leap{ofN: [2]uint64{0, 1}, ofM: [2]uint64{0, 0}, odd: true}
+	nextN, nextM := uint64(0), uint64(1)
+	for small >= nextM && great-small >= l.ofM[1]+nextM {
+		quotient := great / small
+		great, small = small, great%small
+		l.ofN[0], l.ofN[1], nextN = l.ofN[1], nextN, l.ofN[1]+quotient*nextN
+		l.ofM[0], l.ofM[1], nextM = l.ofM[1], nextM, l.ofM[1]+quotient*nextM
+		l.odd = !l.odd
 	}
-	*n = natOfShort(shortGcd(n.short(), m.short()))
+	return l
+}
+
+// leading is the 64 bits of n that stand at the top of a number of size limbs when shift of its bits are zero.
+func (n *nat) leading(size int, shift int) uint64 {
+	high := uint64(n.limb(size-1))<<limbBits | uint64(n.limb(size-2))
+	low := uint64(n.limb(size-3)) << shift
+	return high<<shift | low>>limbBits
+}
+
+// limb is 0 behind the last one of n.
+func (n *nat) limb(at int) uint32 {
+	if at >= len(*n) {
+		return 0
+	}
+	return (*n)[at]
+}
+
+// leapTo works in place: it makes the steps of l for n >= m, or one step when l has none.
+func (n *nat) leapTo(m *nat, l leap) {
+	if l.ofM[0] == 0 {
+		n.divideBy(*m)
+		*n, *m = *m, *n
+		return
+	}
+	for len(*m) < len(*n) {
+		*m = append(*m, 0)
+	}
+	great, small := balance{}, balance{}
+	for i, limb := range *n {
+		n0, m0 := uint64(limb)*l.ofN[0], uint64((*m)[i])*l.ofM[0]
+		n1, m1 := uint64(limb)*l.ofN[1], uint64((*m)[i])*l.ofM[1]
+		if l.odd {
+			(*n)[i], (*m)[i] = great.take(m0, n0), small.take(n1, m1)
+		} else {
+			(*n)[i], (*m)[i] = great.take(n0, m0), small.take(m1, n1)
+		}
+	}
+	n.trim()
+	m.trim()
+}
+
+// balance is a difference of two sums at work, limb by limb: what is carried in each, and what is owed.
+type balance struct {
+	plus  uint64
+	minus uint64
+	owed  uint64
+}
+
+// take gives the next limb of the difference. Products of two limbs leave room for what is carried.
+func (b *balance) take(plus uint64, minus uint64) uint32 {
+	plus += b.plus
+	minus += b.minus
+	difference := plus&limbMax - minus&limbMax - b.owed
+	b.plus, b.minus, b.owed = plus>>limbBits, minus>>limbBits, difference>>63
+	return uint32(difference)
 }
 
 func shortGcd(a uint64, b uint64) uint64 {
@@ -341,6 +394,15 @@ func gcdOf(a nat, b nat) nat {
 	n, m := ownCopy(a), ownCopy(b)
 	n.becomeGcd(&m)
 	return n
+}
+
+// without is n divided by one of its divisors. It may share the limbs of n.
+func (n *nat) without(divisor nat) nat {
+	if divisor.isOne() {
+		return *n
+	}
+	rest := ownCopy(*n)
+	return rest.divideBy(divisor)
 }
 
 // NatMul is the product of two naturals.
@@ -366,11 +428,13 @@ func NatGcd(a []uint32, b []uint32) []uint32 {
 	return gcdOf(readOnly(a), readOnly(b))
 }
 
-// fraction is a rational at work: not always in lowest terms, and zero may have a sign.
+// fraction is a rational at work: not always in lowest terms, and zero may have a sign. All that top and
+// bottom have in common divides shared; a shared of zero, which everything divides, tells nothing.
 type fraction struct {
 	neg    bool
 	top    nat
 	bottom nat
+	shared nat
 }
 
 // fractionOf shares the limbs of r: what is worked out of it must be on new memory.
@@ -380,7 +444,7 @@ func fractionOf(r Rat) fraction {
 
 // normalise lays f down as the one valid Rat of its value. f has limbs of its own, and bottom is not zero.
 func (f *fraction) normalise() Rat {
-	common := gcdOf(f.top, f.bottom)
+	common := f.common()
 	if !common.isOne() {
 		f.top = f.top.divideBy(common)
 		f.bottom = f.bottom.divideBy(common)
@@ -388,12 +452,25 @@ func (f *fraction) normalise() Rat {
 	return Rat{Neg: f.neg && !f.top.isZero(), Num: f.top, Den: f.bottom}
 }
 
+// common is the greatest common divisor of top and bottom. Long numbers most often share little, and
+// then to ask for it by way of shared is far shorter.
+func (f *fraction) common() nat {
+	if f.bottom.isOne() || f.shared.isOne() {
+		return nat{1}
+	}
+	return gcdOf(gcdOf(f.shared, f.top), f.bottom)
+}
+
+// add needs f and g in lowest terms: then the parts of the sum have nothing in common but what the bottoms share.
 func (f *fraction) add(g fraction) {
+	shared := gcdOf(f.bottom, g.bottom)
+	mine, others := f.bottom.without(shared), g.bottom.without(shared)
 	other := g.top
-	other.multiply(f.bottom)
-	f.top.multiply(g.bottom)
-	f.bottom.multiply(g.bottom)
+	other.multiply(mine)
+	f.top.multiply(others)
+	f.bottom.multiply(others)
 	f.addTop(g.neg, other)
+	f.shared = shared
 }
 
 // addTop adds to the top alone; both it and other have limbs of their own.
@@ -409,7 +486,10 @@ func (f *fraction) addTop(neg bool, other nat) {
 	f.top.subtract(other)
 }
 
+// multiply needs f and g in lowest terms: then only the top of one has anything in common with the bottom of the other.
 func (f *fraction) multiply(g fraction) {
+	f.shared = gcdOf(f.top, g.bottom)
+	f.shared.multiply(gcdOf(g.top, f.bottom))
 	f.neg = f.neg != g.neg
 	f.top.multiply(g.top)
 	f.bottom.multiply(g.bottom)
@@ -495,13 +575,9 @@ func productOf(a Rat, b Rat) Rat {
 	return f.normalise()
 }
 
-// plusProduct is total plus a times b, normalised only once.
+// plusProduct is total plus a times b.
 func plusProduct(total Rat, a Rat, b Rat) Rat {
-	product := fractionOf(a)
-	product.multiply(fractionOf(b))
-	sum := fractionOf(total)
-	sum.add(product)
-	return sum.normalise()
+	return sumOf(total, productOf(a, b))
 }
 
 // quotientOf needs a b that is not zero.
@@ -628,11 +704,8 @@ func RatParse(s string) (Rat, int) {
 	return f.normalise(), numberRead
 }
 
-// RatText writes a number.
-func RatText(r Rat) string {
-	if !RatOk(r) {
-		return ""
-	}
+// textOf writes a number that is known to be valid.
+func textOf(r Rat) string {
 	out := []byte{}
 	if r.Neg {
 		out = append(out, '-')
@@ -644,4 +717,12 @@ func RatText(r Rat) string {
 		out = bottom.appendDecimal(out)
 	}
 	return string(out)
+}
+
+// RatText writes a number.
+func RatText(r Rat) string {
+	if !RatOk(r) {
+		return ""
+	}
+	return textOf(r)
 }

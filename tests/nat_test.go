@@ -141,6 +141,52 @@ func TestP1GreatestCommonDivisorOfMultiples(t *testing.T) {
 	}
 }
 
+func wantGcd(t *testing.T, a *big.Int, b *big.Int) {
+	t.Helper()
+	want := limbsOf(new(big.Int).GCD(nil, nil, a, b))
+	for _, pair := range [][2]*big.Int{{a, b}, {b, a}} {
+		if got := impl.NatGcd(limbsOf(pair[0]), limbsOf(pair[1])); !slices.Equal(got, want) {
+			t.Fatalf("%v and %v: got %v, want %v", pair[0], pair[1], got, want)
+		}
+	}
+}
+
+// Neighbours in this row take the most steps there are, with quotients that are all 1.
+func TestP1GreatestCommonDivisorOfFibonacciNumbers(t *testing.T) {
+	a, b := big.NewInt(0), big.NewInt(1)
+	for i := range 1500 {
+		wantGcd(t, a, b)
+		if i%10 == 0 {
+			factor := big.NewInt(int64(i) + 2)
+			wantGcd(t, new(big.Int).Mul(a, factor), new(big.Int).Mul(b, factor))
+			wantGcd(t, new(big.Int).Mul(a, b), new(big.Int).Mul(b, b))
+		}
+		a, b = b, new(big.Int).Add(a, b)
+	}
+}
+
+// Numbers that begin alike, are multiples of each other or nearly so, or of very different lengths.
+func TestP1GreatestCommonDivisorOfLongNumbers(t *testing.T) {
+	d := newDraws(4)
+	for range 400 {
+		a, b, c := bigOf(d.list(60)), bigOf(d.list(60)), bigOf(d.list(3))
+		little := new(big.Int).SetUint64(d.next() >> d.below(64))
+		near := new(big.Int).Add(a, little)
+		multiple := new(big.Int).Mul(a, c)
+		wantGcd(t, a, b)
+		wantGcd(t, a, near)
+		wantGcd(t, a, multiple)
+		wantGcd(t, a, new(big.Int).Add(multiple, little))
+		wantGcd(t, near, multiple)
+		wantGcd(t, new(big.Int).Mul(near, b), new(big.Int).Mul(multiple, b))
+		wantGcd(t, new(big.Int).Mul(a, b), c)
+		wantGcd(t, new(big.Int).Lsh(a, uint(d.below(100))), new(big.Int).Lsh(b, uint(d.below(100))))
+	}
+	for range 5 {
+		wantGcd(t, bigOf(d.list(900)), bigOf(d.list(900)))
+	}
+}
+
 func TestP1GreatestCommonDivisorWithZero(t *testing.T) {
 	zeros := [][]uint32{nil, {0}, {0, 0}}
 	for _, zero := range zeros {

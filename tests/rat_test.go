@@ -115,7 +115,31 @@ func forRats(check func(a impl.Rat, b impl.Rat)) {
 	d := newDraws(5)
 	for range 2000 {
 		check(d.rat(5), d.rat(5))
+		check(d.kin())
 	}
+}
+
+// kin are two Rats with factors of one row above and below, so that sums and products often cancel in part.
+func (d *draws) kin() (impl.Rat, impl.Rat) {
+	factors := []*big.Int{big.NewInt(1), big.NewInt(2), big.NewInt(12), big.NewInt(0x7fffffff), bigOf(d.list(3)), bigOf(d.list(3))}
+	some := func() *big.Int {
+		product := big.NewInt(1)
+		for range d.below(5) {
+			product.Mul(product, factors[d.below(len(factors))])
+		}
+		return product
+	}
+	one := func() impl.Rat {
+		top, bottom := some(), some()
+		if bottom.Sign() == 0 {
+			bottom.SetInt64(3)
+		}
+		if d.below(2) == 0 {
+			top.Neg(top)
+		}
+		return ratOf(new(big.Rat).SetFrac(top, bottom))
+	}
+	return one(), one()
 }
 
 func TestP2Sum(t *testing.T) {

@@ -1,6 +1,7 @@
 package tests
 
 import (
+	"math/big"
 	"strings"
 	"sync"
 	"testing"
@@ -135,6 +136,35 @@ func TestP16LongResults(t *testing.T) {
 	square := strings.Repeat("9", impl.MaxDigits-1) + "8" + strings.Repeat("0", impl.MaxDigits-1) + "1"
 	wantRun(t, "net 1\nmap 1 1\n"+full+" 0\n", full, square)
 	wantRun(t, "net 1\nmap 1 1\n-1/"+full+" 0\n", "1/"+full, "-1/"+square)
+}
+
+// A chain of fractions, each as long as it may be: what they share with each other is little, and must not be searched
+// for all along the result.
+func TestP16ChainsOfLongNumbers(t *testing.T) {
+	d := newDraws(82)
+	n := impl.Net{}
+	for range 58 {
+		// 41 limbs have at most 395 digits.
+		n.Maps = append(n.Maps, impl.Affine{Rows: 1, Cols: 1, W: []impl.Rat{d.longRat()}, B: []impl.Rat{d.longRat()}})
+	}
+	text := impl.NetText(n)
+	want := numbersOf(mapsByWords(n, nums("2/3")))
+	if len(text) > impl.MaxNetText || len(want) < 60000 {
+		t.Fatalf("%d bytes of text, %d of the result", len(text), len(want))
+	}
+	wantRun(t, text, "2/3", want)
+}
+
+// longRat is a number above 0 with 41 limbs above and below.
+func (d *draws) longRat() impl.Rat {
+	long := func() *big.Int {
+		limbs := make([]uint32, 41)
+		for i := range limbs {
+			limbs[i] = uint32(d.next()>>32) | 1
+		}
+		return bigOf(limbs)
+	}
+	return ratOf(new(big.Rat).SetFrac(long(), long()))
 }
 
 func TestP16LengthOfInputs(t *testing.T) {
