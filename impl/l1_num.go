@@ -577,7 +577,12 @@ func productOf(a Rat, b Rat) Rat {
 
 // plusProduct is total plus a times b.
 func plusProduct(total Rat, a Rat, b Rat) Rat {
-	return sumOf(total, productOf(a, b))
+	product := productOf(a, b)
+	// Most sums of products begin at zero.
+	if isZero(total) {
+		return product
+	}
+	return sumOf(total, product)
 }
 
 // quotientOf needs a b that is not zero.
